@@ -1,0 +1,1 @@
+"""Families of lots in which an exchange can always be answered."""
