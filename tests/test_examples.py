@@ -26,13 +26,54 @@ raises BadText(9)
 [[(), (0,), (0, 1), (1,)], [()]]
 '''
 
+STAGE_2 = '''
+>>> from turnlots.families import Family
+>>> from turnlots.bases import At, same_at
+>>> D = Family.of(3, (), (0, 1), (0, 2), (1, 2))
+>>> at = At(D, [2, 1, 0])
+>>> [at.bases(), at.circuits(), at.alike(), same_at(D, at.lot, 2)]
+[[(0,), (1,), (2,)], [(0, 1), (0, 2), (1, 2)], ((0, 1, 2),), 'down']
+
+>>> from turnlots.labels import family_of_labels
+>>> family_of_labels(1, [[()], [(0,)]]).lots
+((),)
+
+>>> from turnlots.labels import family_of_labels
+>>> family_of_labels(1, [[(0,)], [(0,)]])
+raises BadEdge((), 0)
+'''
+
 STAGE_3 = '''
+>>> from turnlots.families import Family
+>>> from turnlots.rules import depth_table
+>>> depth_table(Family.of(2, (), (0, 1)))
+(0, 1, 0, 1)
+
+>>> from turnlots.families import Family
+>>> from turnlots.rules import broken_rule, depth_table
+>>> broken_rule(3, depth_table(Family.of(3, (), (0, 1, 2))))
+(3, (0,), (1, 2))
+
 >>> from turnlots.families import Family
 >>> from turnlots.met import Pair, met, met_lots, reach
 >>> family = Family.of(3, (0,), (1, 2))
 >>> pair = Pair((1, 0), (2,))
 >>> [met(family, pair), reach(family, pair), met_lots(family, pair), (0, 1) in pair]
 [2, 1, [(0,)], True]
+
+>>> from turnlots.families import Family
+>>> from turnlots.kept import least_refused
+>>> first, second = least_refused(Family.of(2, (0,), (1,)))
+>>> [first.wanted, first.unwanted, second.wanted, second.unwanted]
+[(), (0, 1), (0, 1), ()]
+'''
+
+STAGE_4 = '''
+>>> from turnlots.families import Family
+>>> from turnlots.small import forget, in_of, out_of
+>>> family = Family.of(3, (0,), (1, 2), (0, 1, 2))
+>>> [out_of(family, 1).lots, in_of(family, 1).lots, forget(family, 1).lots]
+[((0,),), ((0, 1), (1,)), ((0,), (0, 1), (1,))]
 '''
 
 
@@ -60,5 +101,11 @@ class ExamplesTest(unittest.TestCase):
     def test_stage_1(self):
         self.check_examples(STAGE_1)
 
+    def test_stage_2(self):
+        self.check_examples(STAGE_2)
+
     def test_stage_3(self):
         self.check_examples(STAGE_3)
+
+    def test_stage_4(self):
+        self.check_examples(STAGE_4)

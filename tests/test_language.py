@@ -225,6 +225,14 @@ class LanguageTest(unittest.TestCase):
         taken = isinstance(above, (ast.For, ast.comprehension)) and above.iter is node
         self.assertTrue(taken or file.called(above) in TAKERS, node.lineno)
 
+    def test_l23_ranges(self):
+        for file in self.each():
+            for node in file.nodes(ast.Call):
+                above = file.parents[node]
+                if file.called(node) == "range" and not isinstance(above, (ast.Assign, ast.Compare)):
+                    if file.called(above) not in ("reversed", "len"):
+                        self.check_taken(file, node)
+
     def test_l24_sets(self):
         for file in self.each():
             for node in file.nodes(ast.Call, ast.SetComp):
