@@ -158,6 +158,10 @@ class TestsTest(Case):
             self.assert_same(alone_far(family), first(far))
             self.assertEqual(near_break(family) is None and not far, is_gated(family))
 
+    def test_alone_far_of_several(self):
+        family = Family.of(7, (), (0, 1, 2, 3, 4), (0, 1, 2, 3, 5), (0, 1, 2, 4, 6))
+        self.assert_same(alone_far(family), ((), (0, 1, 2, 3, 4)))
+
     def test_point_7_boxes(self):
         for family in itertools.chain(small_families(), chosen_families((4, 5), 3)):
             boxes = [
