@@ -102,10 +102,10 @@ class TablesTest(Case):
             self.assertTrue(breach is None or breach[0] == 3)
 
     def test_points_39_and_42_there_and_back(self):
-        for size in (1, 2, 3):
+        for size in (1, 2, 3, 4):
             for family in gated_families(size):
                 self.assertEqual(family_of_met(size, met_table(family)), family)
-        for family in [*gated_families(4)[::4], *gated_row(5), *gated_row(6)]:
+        for family in [*gated_row(5), *gated_row(6)]:
             self.assertEqual(family_of_met(family.size, met_table(family)), family)
 
     def test_point_39_rule_4_matters_only_at_pairs_of_all_things_but_one(self):
