@@ -67,7 +67,8 @@ class File:
         return [(node.module, name) for node in self.nodes(ast.ImportFrom) for name in node.names]
 
     def defined(self):
-        return [node.name for node in self.tree.body if isinstance(node, (ast.FunctionDef, ast.ClassDef))]
+        names = [node.name for node in self.tree.body if isinstance(node, (ast.FunctionDef, ast.ClassDef))]
+        return names + [node.targets[0].id for node in self.tree.body if isinstance(node, ast.Assign)]
 
     def stored(self):
         """All names that the file gives a meaning, with where it does."""
@@ -232,6 +233,19 @@ class LanguageTest(unittest.TestCase):
                 if file.called(node) == "range" and not isinstance(above, (ast.Assign, ast.Compare)):
                     if file.called(above) not in ("reversed", "len"):
                         self.check_taken(file, node)
+
+    def test_l23_no_other_function_has_the_name_of_a_generator(self):
+        names = [node.name for file in FILES for node in file.functions()]
+        for file in self.each():
+            for node in file.functions():
+                if any(isinstance(inner, (ast.Yield, ast.YieldFrom)) for inner in ast.walk(node)):
+                    self.assertEqual(names.count(node.name), 1)
+
+    def test_l5_reversed_beside_getitem(self):
+        for file in self.each():
+            for node in file.nodes(ast.Call):
+                if file.called(node) == "reversed":
+                    self.assertIn(file.called(node.args[0]), ("list", "tuple", "sorted", "range"))
 
     def test_l24_sets(self):
         for file in self.each():

@@ -53,6 +53,13 @@ def check_thing(thing, size):
     return thing
 
 
+def check_two(thing, other, size):
+    """Raises BadThing unless the two are different things of 0 to size - 1."""
+    check_thing(thing, size)
+    if check_thing(other, size) == thing:
+        raise BadThing(other)
+
+
 def check_any_thing(thing):
     """The thing, if it is an integer of 0 or more."""
     if not is_int(thing) or thing < 0:
@@ -63,6 +70,13 @@ def check_any_thing(thing):
 def check_number(number, name, least):
     """The number, if it is an integer of least or more."""
     if not is_int(number) or number < least:
+        raise BadNumber(name)
+    return number
+
+
+def check_any_number(number, name):
+    """The number, if it is an integer."""
+    if not is_int(number):
         raise BadNumber(name)
     return number
 

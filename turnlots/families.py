@@ -1,7 +1,7 @@
 """Families of lots."""
 
-from turnlots.checks import is_int, is_list, is_lot, lot_of
-from turnlots.errors import BadFamily, BadNumber, OtherSize, TooMany
+from turnlots.checks import check_any_number, is_int, is_list, is_lot, lot_of
+from turnlots.errors import BadFamily, OtherSize, TooMany
 from turnlots.masks import family_masks, lots_from, ordered_masks
 
 
@@ -50,9 +50,8 @@ class Family:
     def sized(cls, size, low, high):
         """The family of all lots of low to high things."""
         check_family_size(size)
-        for number, name in ((low, "low"), (high, "high")):
-            if not is_int(number):
-                raise BadNumber(name)
+        check_any_number(low, "low")
+        check_any_number(high, "high")
         return cls(size, [lot for lot in lots_from(ordered_masks(size)) if low <= len(lot) <= high])
 
     @staticmethod

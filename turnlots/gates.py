@@ -11,6 +11,15 @@ def check_inside(family, lot):
         raise NotInside(lot)
 
 
+def inner_two(family, inner, other):
+    """Two lots of the family as ascending tuples."""
+    one = lot_of(inner, family.size)
+    two = lot_of(other, family.size)
+    check_inside(family, one)
+    check_inside(family, two)
+    return one, two
+
+
 def nearest_masks(family, target):
     """The masks of the nearest lots to the lot with the mask target."""
     counts = thing_counts(family.size)

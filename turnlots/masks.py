@@ -31,12 +31,17 @@ def ordered_masks(size):
     return masks
 
 
+def mask_sums(numbers):
+    """The list of the sums of the numbers of the things of all lots, by their masks."""
+    sums = [0]
+    for number in numbers:
+        sums = sums + [part + number for part in sums]
+    return sums
+
+
 def thing_counts(size):
     """The list of the numbers of things of all lots, by their masks."""
-    counts = [0]
-    for _ in range(size):
-        counts = counts + [count + 1 for count in counts]
-    return counts
+    return mask_sums([1 for _ in range(size)])
 
 
 def family_masks(family):

@@ -71,10 +71,15 @@ def renumbered(thing, dropped):
     return thing - len([other for other in taken if other < thing])
 
 
+def moved_up(lots, thing):
+    """The lots with a gap left for a new thing: the things from it on go up by one."""
+    return [tuple([x + 1 if x >= thing else x for x in lot]) for lot in lots]
+
+
 def grown(family, thing):
     """The family with a new thing put in as the given one, in each lot and in none."""
     if family.size == 10:
         raise TooMany("things")
     check_thing(thing, family.size + 1)
-    moved = [tuple([x + 1 if x >= thing else x for x in lot]) for lot in family.lots]
+    moved = moved_up(family.lots, thing)
     return Family(family.size + 1, moved + [lot + (thing,) for lot in moved])
