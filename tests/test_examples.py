@@ -74,6 +74,87 @@ STAGE_4 = '''
 >>> family = Family.of(3, (0,), (1, 2), (0, 1, 2))
 >>> [out_of(family, 1).lots, in_of(family, 1).lots, forget(family, 1).lots]
 [((0,),), ((0, 1), (1,)), ((0,), (0, 1), (1,))]
+
+>>> from turnlots.families import Family
+>>> from turnlots.counts import depth_list, short_table, shortfall
+>>> family = Family.of(3, (), (0, 1, 2))
+>>> [depth_list(family), shortfall(family, 0), short_table(family)]
+[(2, 6), 2, (((), ()), 0)]
+
+>>> from turnlots.families import Family
+>>> from turnlots.neighbours import are_neighbours, clash
+>>> from turnlots.stacks import stacked
+>>> first, second = Family.of(1, ()), Family.of(1, (0,))
+>>> [are_neighbours(first, second), stacked(first, second, 0).lots, clash(Family.of(2, ()), Family.of(2, (0, 1)))]
+[True, ((), (0, 1)), ()]
+'''
+
+STAGE_5 = '''
+>>> from turnlots.wishes import Wish
+>>> w = Wish(3, -1, 2)
+>>> [(w + Wish.named(3, a1=4)).numbers, (-w).numbers, w[2], w.greatest, w.turned((0,)).numbers]
+[(3, 3, 2), (-3, 1, -2), 2, 3, (-3, -1, 2)]
+
+>>> from turnlots.families import Family
+>>> from turnlots.book import book, book_steps
+>>> from turnlots.critical import critical, reasons
+>>> D = Family.of(3, (0,), (1,))
+>>> [book_steps(D, (5, 3, 9)), book(D, (5, 3, 9)), critical(D, (5, 3, 9), 0), reasons(D, (5, 3, 9), 0), critical(D, (5, 3, 9), 2)]
+[[(2, False, 'forced'), (0, True, 'free'), (1, False, 'forced')], (0,), 3, [(1, 1)], None]
+
+>>> from turnlots.families import Family
+>>> from turnlots.book import best_lots, bettering, book, is_best
+>>> D = Family.of(3, (), (0, 1, 2))
+>>> [book(D, [4, -3, -3]), best_lots(D, [4, -3, -3]), bettering(D, [4, -3, -3], (2, 1, 0)), is_best(D, [4, -3, -3], (2, 1, 0))]
+[(0, 1, 2), [()], None, False]
+
+>>> from turnlots.families import Family
+>>> from turnlots.stretches import Stretches, ends, safe_lots, side_ends, world_high
+>>> D = Family.of(3, (), (0, 1), (0, 2), (1, 2))
+>>> rows = Stretches([(1, 3), (2, 2), (0, 1)])
+>>> [rows.unseen(), safe_lots(D, rows), ends(D, rows, 2), side_ends(D, rows, 2, (2,)), world_high(rows, high=[0]).numbers]
+[(0, 2), [(0, 1)], (1, 2), (2, 1), (3, 2, 0)]
+'''
+
+STAGE_6 = '''
+>>> from turnlots.families import Family
+>>> from turnlots.bonds import bond_lots, bonds
+>>> from turnlots.partings import finest
+>>> from turnlots.sides import right_sides
+>>> D = Family(4, [(0,), (0, 1), (0, 1, 2), (0, 1, 2, 3), (0, 2), (0, 2, 3), (0, 3), (1,), (1, 2), (1, 2, 3), (2, 3), (3,)])
+>>> [bonds(D), bond_lots(D, 2, 1), finest(D), right_sides(D)]
+[[(0, 1, True, False), (0, 3, True, False), (1, 2, False, True), (1, 3, True, False), (2, 3, False, True)], [(0, 1, 3), (1, 3)], ((0, 1, 2, 3),), [(0, 1, 3), (2,)]]
+
+>>> from turnlots.families import Family
+>>> from turnlots.effects import moves
+>>> from turnlots.full import hole, reach_gap
+>>> from turnlots.sides import right_side, wrong_bond
+>>> D = Family.of(3, (), (0, 1), (0, 2), (1, 2))
+>>> [hole(D), reach_gap(D), wrong_bond(D, (0,)), right_side(D), moves(D, 0, 1)]
+[(0,), ((0,), (1, 2)), (0, 1, 'rivals'), None, 'both']
+
+>>> from turnlots.families import Family
+>>> from turnlots.bonds import showing_wish
+>>> from turnlots.effects import trail
+>>> from turnlots.partings import finest, split_by, wedge
+>>> D = Family.of(3, (0,), (1,))
+>>> one, rest = split_by(D, [2])
+>>> [showing_wish(D, (1, 0), 0, 1).numbers, trail(D, (0, 1, -8), 0, 1, [-2, 0, 5]), finest(D), one.lots, rest.lots, wedge(D, (0,))]
+[(0, 1, -8), [-2, 0, 5], ((0, 1), (2,)), ((),), ((0,), (1,)), ((), (0,), (1,))]
+'''
+
+STAGE_7 = '''
+>>> from turnlots.even import Web
+>>> web = Web.of_rows("4: 2-1 0-1")
+>>> [web.links, web.web_parts(), web.sides(), (1, 0) in web]
+[((0, 1), (1, 2)), ((0, 1, 2), (3,)), (0, 2), True]
+
+>>> from turnlots.families import Family
+>>> from turnlots.even import web_at
+>>> from turnlots.pairing import apart_pairing, pairings
+>>> D = Family.sized(4, 2, 2)
+>>> [web_at(D, (0, 1)).links, pairings(web_at(D, (0, 1)), (0, 1, 2, 3)), apart_pairing(D, (0, 1), (1, 3))]
+[((0, 2), (0, 3), (1, 2), (1, 3)), [((0, 2), (1, 3)), ((0, 3), (1, 2))], ((0, 3),)]
 '''
 
 
@@ -109,3 +190,12 @@ class ExamplesTest(unittest.TestCase):
 
     def test_stage_4(self):
         self.check_examples(STAGE_4)
+
+    def test_stage_5(self):
+        self.check_examples(STAGE_5)
+
+    def test_stage_6(self):
+        self.check_examples(STAGE_6)
+
+    def test_stage_7(self):
+        self.check_examples(STAGE_7)

@@ -1,0 +1,74 @@
+"""Lots that pair up in a web, and what is apart in two lots taken in pairs."""
+
+from turnlots.breaks import partners
+from turnlots.checks import lot_of
+from turnlots.even import web_at
+from turnlots.gates import inner_two
+from turnlots.lots import apart
+
+
+def pairings_of(web, things):
+    """The list of the pairings of the things of an ascending tuple."""
+    if len(things) == 0:
+        return [()]
+    first, *rest = things
+    found = []
+    for other in rest:
+        if (first, other) in web:
+            left = tuple([thing for thing in rest if thing != other])
+            found = found + [((first, other),) + links for links in pairings_of(web, left)]
+    return found
+
+
+def pairings(web, lot):
+    """The list of all pairings of the lot."""
+    return pairings_of(web, lot_of(lot, web.size))
+
+
+def pairing_count(web, lot):
+    """The number of pairings of the lot."""
+    return len(pairings(web, lot))
+
+
+def pairs_up(web, lot):
+    """True if the lot has a pairing."""
+    return pairing_count(web, lot) > 0
+
+
+def greatest_of(web, things):
+    """The number of links of a greatest pairing within the things of a tuple."""
+    if len(things) < 2:
+        return 0
+    first, *rest = things
+    counts = [greatest_of(web, rest)]
+    for other in rest:
+        if (first, other) in web:
+            counts.append(1 + greatest_of(web, [thing for thing in rest if thing != other]))
+    return max(counts)
+
+
+def greatest_pairing(web, lot):
+    """The number of links of a greatest pairing within the lot."""
+    return greatest_of(web, lot_of(lot, web.size))
+
+
+def apart_pairing(family, inner, other):
+    """The first pairing, in the web at inner, of the things in which the two lots are apart.
+
+    None if there is none.
+    """
+    one, two = inner_two(family, inner, other)
+    found = pairings(web_at(family, one), apart(one, two, family.size))
+    return found[0] if found else None
+
+
+def both_partner(family, inner, other, thing):
+    """The least other thing that is a partner of the thing for inner and other and for other and
+    inner, None if there is none.
+    """
+    ways = partners(family, inner, other, thing)
+    back = partners(family, other, inner, thing)
+    for y in ways:
+        if y != thing and y in back:
+            return y
+    return None
