@@ -158,6 +158,15 @@ class BookTest(Case):
         self.assertGreater(seen, 500)
 
 
+    def test_point_66_bookless_for_lots_of_few_things_between_far_ones(self):
+        ten = tuple(range(10))
+        for x, y, z in ((0, 1, 2), (0, 8, 9), (3, 4, 9), (7, 8, 9)):
+            for turn in ((), (0,), (2, 4, 8, 9), ten):
+                family = Family.of(10, (), (x, y, z), ten) ^ turn
+                found = bookless(family)
+                self.assertNotIn(book(family, found), true_best(family, found))
+
+
 class BetteringTest(Case):
     def test_point_63_first_bettering(self):
         for family in families():

@@ -93,19 +93,23 @@ class RightLotsTest(Case):
         self.assert_same(odd_ring(Family.everything(10)), None)
 
 
-def ring_family(size, words):
-    """A family with just the bonds of one ring, of these sorts: each made far from the others."""
+def family_of_bonds(size, marks):
+    """A family with just the bonds (x, y, word) of the marks, each made far from the others."""
     lots = []
-    for x, word in enumerate(words):
-        y = (x + 1) % len(words)
+    for x, y, word in marks:
         for lot in every_lot(size):
             new = [plus(lot, (x,)), plus(lot, (y,))]
-            is_mate = (x in lot) != (y in lot)
-            if is_mate == (word == "mates") and min([gap_of(*pair) for pair in itertools.product(new, lots)],
-                                                    default=3) > 2:
+            gaps = [gap_of(*pair) for pair in itertools.product(new, lots)]
+            if ((x in lot) != (y in lot)) == (word == "mates") and min(gaps, default=3) > 2:
                 lots += new
                 break
     return Family(size, lots)
+
+
+def ring_of(words, first):
+    """The marks of a ring that begins with a thing, with these words for its bonds."""
+    things = [first + place for place in range(len(words))]
+    return list(zip(things, things[1:] + things[:1], words))
 
 
 class OddRingTest(Case):
@@ -121,13 +125,22 @@ class OddRingTest(Case):
     def test_point_86_one_ring_of_each_length(self):
         for size in (3, 4, 5, 6):
             for mates in range(size + 1):
-                family = ring_family(9, ["mates"] * mates + ["rivals"] * (size - mates))
-                self.assertEqual(len(true_marks(family)), size)
-                found = odd_ring(family)
-                self.assertEqual(found is not None, mates % 2 == 1)
-                if found is not None:
-                    self.check_ring(family, found)
-                    self.assertEqual(len(found), size)
+                words = ["mates"] * mates + ["rivals"] * (size - mates)
+                self.check_one_ring(ring_of(words, 0), size, mates)
+
+    def test_point_86_one_ring_far_from_the_least_thing(self):
+        way = [(0, 2, "rivals"), (1, 2, "mates"), (1, 3, "rivals")]
+        for words in (["mates"] + ["rivals"] * 4, ["rivals"] * 2 + ["mates"], ["mates"] * 3 + ["rivals"]):
+            self.check_one_ring(way + ring_of(words, 3), len(words), words.count("mates"))
+
+    def check_one_ring(self, marks, size, mates):
+        family = family_of_bonds(10, marks)
+        self.assertEqual(len(true_marks(family)), len(marks))
+        found = odd_ring(family)
+        self.assertEqual(found is not None, mates % 2 == 1)
+        if found is not None:
+            self.check_ring(family, found)
+            self.assertEqual(len(found), size)
 
     def check_ring(self, family, found):
         self.assertIsInstance(found, list)

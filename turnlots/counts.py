@@ -4,7 +4,7 @@ from turnlots.checks import check_thing, is_int, is_list
 from turnlots.errors import BadTable, BadThing
 from turnlots.masks import depth_row
 from turnlots.reaches import all_pairs
-from turnlots.small import check_left, in_of, out_of, small_table
+from turnlots.small import in_of, out_of, small_table
 
 
 def depth_list(family):
@@ -22,7 +22,7 @@ def total(family):
 
 
 def shortfall_at(family, thing):
-    """The shortfall of a loose thing of a family of two or more things."""
+    """The shortfall of a loose thing; raises BadNumber if nothing is left without it."""
     return total(out_of(family, thing)) + total(in_of(family, thing)) - total(family)
 
 
@@ -30,7 +30,6 @@ def shortfall(family, thing):
     """The total of out thing plus the total of in thing less the total of the family."""
     if check_thing(thing, family.size) not in family.loose():
         raise BadThing(thing)
-    check_left(family, 1)
     return shortfall_at(family, thing)
 
 

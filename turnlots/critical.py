@@ -41,9 +41,8 @@ def enters(family, wish, thing):
 def reasons(family, wish, thing):
     """The list of the reasons of the critical wish of the thing."""
     numbers = wish_of(wish, family.size).numbers
+    # None for a fixed thing: no number is equal to it
     value = critical(family, wish, thing)
-    if value is None:
-        return []
     found = [(-1, 0)] if value == 0 else []
     for other, number in enumerate(numbers):
         for sign in (1, -1):
@@ -59,7 +58,7 @@ def unreasoned(family):
         return None
     inner, other, thing = found
     apart = [x for x in range(family.size) if (x in inner) != (x in other) and x != thing]
-    order = apart + [x for x in range(family.size) if x not in apart and x != thing]
+    order = apart + [x for x in range(family.size) if x not in apart]
     # To exchange a thing at inner costs a power of two of its own. So the critical wish is, but for
     # its sign, the least cost of what must be exchanged with the thing: by the break two or more
     # other things, and none outside of apart, as all of apart together cost less.

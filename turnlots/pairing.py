@@ -7,17 +7,34 @@ from turnlots.gates import inner_two
 from turnlots.lots import apart
 
 
+def without(things, other):
+    """The list of the things but the other one."""
+    return [thing for thing in things if thing != other]
+
+
 def pairings_of(web, things):
-    """The list of the pairings of the things of an ascending tuple."""
+    """The list of the pairings of the things, which are in ascending order."""
     if len(things) == 0:
         return [()]
     first, *rest = things
     found = []
     for other in rest:
         if (first, other) in web:
-            left = tuple([thing for thing in rest if thing != other])
-            found = found + [((first, other),) + links for links in pairings_of(web, left)]
+            found = found + [((first, other),) + links for links in pairings_of(web, without(rest, other))]
     return found
+
+
+def first_pairing(web, things):
+    """The first pairing of the things, which are in ascending order, None if there is none."""
+    if len(things) == 0:
+        return ()
+    first, *rest = things
+    for other in rest:
+        if (first, other) in web:
+            links = first_pairing(web, without(rest, other))
+            if links is not None:
+                return ((first, other),) + links
+    return None
 
 
 def pairings(web, lot):
@@ -32,18 +49,18 @@ def pairing_count(web, lot):
 
 def pairs_up(web, lot):
     """True if the lot has a pairing."""
-    return pairing_count(web, lot) > 0
+    return first_pairing(web, lot_of(lot, web.size)) is not None
 
 
 def greatest_of(web, things):
-    """The number of links of a greatest pairing within the things of a tuple."""
+    """The number of links of a greatest pairing within the things."""
     if len(things) < 2:
         return 0
     first, *rest = things
     counts = [greatest_of(web, rest)]
     for other in rest:
         if (first, other) in web:
-            counts.append(1 + greatest_of(web, [thing for thing in rest if thing != other]))
+            counts.append(1 + greatest_of(web, without(rest, other)))
     return max(counts)
 
 
@@ -58,8 +75,7 @@ def apart_pairing(family, inner, other):
     None if there is none.
     """
     one, two = inner_two(family, inner, other)
-    found = pairings(web_at(family, one), apart(one, two, family.size))
-    return found[0] if found else None
+    return first_pairing(web_at(family, one), apart(one, two, family.size))
 
 
 def both_partner(family, inner, other, thing):

@@ -60,7 +60,7 @@ def odd_cycle(size, odd):
         ways[root] = ((root,), False)
         queue = [root]
         while queue:
-            x = queue.pop()
+            x = queue.pop(0)
             way, is_odd = ways[x]
             joined = [thing for thing in range(size) if (x, thing) in odd]
             for y in joined:

@@ -4,7 +4,6 @@ from turnlots.book import best_lots, is_best
 from turnlots.checks import check_thing, is_int, is_list, lot_of
 from turnlots.critical import critical
 from turnlots.errors import BadStretch, TooMany
-from turnlots.gates import check_inside
 from turnlots.masks import mask_of, mask_sums
 from turnlots.wishes import Wish
 
@@ -104,24 +103,18 @@ def worlds(stretches):
         numbers = next_numbers(rows, numbers)
 
 
-def checked_inner(family, stretches, lot):
-    """The rows of the stretches and a lot of the family, an ascending tuple."""
-    rows = rows_of(stretches, family.size)
-    row = lot_of(lot, family.size)
-    check_inside(family, row)
-    return rows, row
-
-
 def is_safe(family, stretches, lot):
     """True if the lot of the family is best in every world."""
-    rows, row = checked_inner(family, stretches, lot)
+    rows = rows_of(stretches, family.size)
+    row = lot_of(lot, family.size)
     # no other world is worse for this lot against any other one
     return is_best(family, own_world(rows, row), row)
 
 
 def is_possible(family, stretches, lot):
     """True if the lot of the family is best in some world."""
-    rows, row = checked_inner(family, stretches, lot)
+    rows = rows_of(stretches, family.size)
+    row = lot_of(lot, family.size)
     # no other world is better for this lot against any other one
     return is_best(family, high_on(rows, row), row)
 
