@@ -173,3 +173,60 @@ def gated_sample():
     yield from gated_families(4)[::60]
     for size in (5, 6):
         yield from gated_row(size)
+
+
+def every_even_family(size):
+    """All families of the size whose lots are alike in parity."""
+    for parity in (0, 1):
+        lots = [lot for lot in every_lot(size) if len(lot) % 2 == parity]
+        for number in range(1, 1 << len(lots)):
+            yield Family(size, [lot for place, lot in enumerate(lots) if number >> place & 1])
+
+
+def some_even_families(sizes=(5, 6), each=6, seed=3):
+    """A row of larger even families, gated or not, always the same one."""
+    chooser = random.Random(seed)
+    for size in sizes:
+        for parity in (0, 1):
+            lots = [lot for lot in every_lot(size) if len(lot) % 2 == parity]
+            for many in (1, 2, 3, len(lots) // 2, len(lots) - 3, len(lots) - 1):
+                yield Family(size, chooser.sample(lots, many))
+        for family in gated_row(size, chooser):
+            if len({len(lot) % 2 for lot in family}) == 1:
+                yield family
+                for _ in range(each):
+                    yield one_lot_less(family, chooser)
+
+
+def one_lot_less(family, chooser):
+    """The family without one of its lots; a family of one lot as it is."""
+    lots = list(family.lots)
+    if len(lots) > 1:
+        lots.pop(chooser.randrange(len(lots)))
+    return Family(family.size, lots)
+
+
+def some_gated(sizes=(1, 2, 3), step=60):
+    """All gated families of the sizes, and each step-th one of size 4."""
+    for size in sizes:
+        yield from gated_families(size)
+    yield from gated_families(4)[::step]
+
+
+def apart_places(size, many):
+    """All tuples of a lot of things and a lot of this many other things, ascending."""
+    return [
+        (outer, lot) for outer in every_lot(size) for lot in every_lot(size)
+        if len(lot) == many and not set(outer) & set(lot)
+    ]
+
+
+def whole_pairs_of(family, outer, lot, parity=None):
+    """The number of whole pairs of opposite lots, of one parity if one is given: points 97 and 109."""
+    lots, found = set(family.lots), set()
+    for many in range(len(lot) + 1):
+        for part in itertools.combinations(lot, many):
+            one, other = plus(outer, part), plus(outer, plus(lot, part))
+            if {one, other} <= lots and parity in (None, len(one) % 2):
+                found.add(frozenset((one, other)))
+    return len(found)

@@ -155,6 +155,36 @@ STAGE_7 = '''
 >>> D = Family.sized(4, 2, 2)
 >>> [web_at(D, (0, 1)).links, pairings(web_at(D, (0, 1)), (0, 1, 2, 3)), apart_pairing(D, (0, 1), (1, 3))]
 [((0, 2), (0, 3), (1, 2), (1, 3)), [((0, 2), (1, 3)), ((0, 3), (1, 2))], ((0, 3),)]
+
+>>> from turnlots.skews import pfaffian, skew_family
+>>> rows = [[0, 1, 2, 1], [-1, 0, 1, 1], [-2, -1, 0, 1], [-1, -1, -1, 0]]
+>>> [pfaffian(rows, (0, 2)), pfaffian(rows, (0, 1, 2, 3)), skew_family(4, rows).lots]
+[2, 0, ((), (0, 1), (0, 2), (0, 3), (1, 2), (1, 3), (2, 3))]
+'''
+
+STAGE_8 = '''
+>>> from turnlots.families import Family
+>>> from turnlots.breaks import is_gated
+>>> from turnlots.bothways import both_partners, lone_three, one_way
+>>> D = Family.of(3, (), (0,), (1,), (2,), (0, 1, 2))
+>>> [is_gated(D), one_way(D), both_partners(D, (), (0, 1, 2), 0), lone_three(D)]
+[True, ((), (0, 1, 2), 0), [], ((), (0, 1, 2))]
+
+>>> from turnlots.families import Family
+>>> from turnlots.bothways import pairs_and_single
+>>> from turnlots.lifts import drop_last, lift
+>>> from turnlots.shadows import matroid_above
+>>> D = Family.sized(2, 1, 2)
+>>> [lift(D).lots, drop_last(lift(D)) == D, pairs_and_single(D, (0,), (1,)), matroid_above(D).lots]
+[((0, 1), (0, 2), (1, 2)), True, ((0, 1),), ((0, 1), (0, 2), (1, 2))]
+
+>>> from turnlots.families import Family
+>>> from turnlots.bothways import fewest_steps
+>>> from turnlots.merges import glue_over, merge
+>>> D = Family(4, [(), (0,), (1,), (2,), (3,), (0, 1, 2), (0, 1, 3), (0, 2, 3), (1, 2, 3), (0, 1, 2, 3)])
+>>> glued = glue_over(Family.of(2, (), (0, 1)), Family.of(2, (0,), (1,)), [(1, 0)])
+>>> [fewest_steps(D, (), (3, 2, 1, 0)), merge(Family.of(3, (0,), (1, 2)), 0, 2).lots, glued.lots]
+[3, ((0,), (0, 1)), ((0,), (1,))]
 '''
 
 
@@ -199,3 +229,6 @@ class ExamplesTest(unittest.TestCase):
 
     def test_stage_7(self):
         self.check_examples(STAGE_7)
+
+    def test_stage_8(self):
+        self.check_examples(STAGE_8)

@@ -198,12 +198,16 @@ class LanguageTest(unittest.TestCase):
         methods = {node.name for file in FILES for node in file.functions()
                    if isinstance(file.parents[node], ast.ClassDef)}
         self.assertEqual(assigned & methods, set())
+        properties = {node.name for file in FILES for node in file.functions()
+                      if "property" in [decorator.id for decorator in node.decorator_list]}
+        values = {node.targets[0].id for file in FILES for node in file.nodes(ast.Assign)
+                  if isinstance(file.parents[node], ast.ClassDef)}
         for file in self.each():
             for node in file.nodes(ast.Attribute):
                 if isinstance(file.parents[node], ast.Call) and file.parents[node].func is node:
-                    self.assertIn(node.attr, METHODS | methods)
+                    self.assertIn(node.attr, METHODS | methods - properties)
                 else:
-                    self.assertIn(node.attr, assigned)
+                    self.assertIn(node.attr, assigned | properties | values)
 
     def test_l20_is(self):
         for file in self.each():

@@ -21,6 +21,13 @@ def partners(family, inner, other, thing):
     return [y for y in lot_from(apart) if inside[mask_of(one) ^ ((1 << thing) | (1 << y))]]
 
 
+def common_partners(family, inner, other, thing):
+    """The list of the partners of thing for inner and other that are also those for other and inner."""
+    ways = partners(family, inner, other, thing)
+    back = partners(family, other, inner, thing)
+    return [y for y in ways if y in back]
+
+
 def lowering_mask(size, inside, mask):
     """The mask of the things whose exchange at the lot leads to a lot of the family."""
     return mask_of([thing for thing in range(size) if inside[mask ^ (1 << thing)]])
@@ -102,17 +109,22 @@ def unequal(family):
     return outer, least[0], others[0]
 
 
-def alone_far(family):
-    """The first two lots of the family that are alone and have a gap of 5 or more."""
+def first_alone(family, gap):
+    """The first two lots of the family that are alone and have this gap or a greater one."""
     masks = family_masks(family)
     counts = thing_counts(family.size)
     for inner in masks:
         least = least_of([mask ^ inner for mask in masks if mask != inner], counts)
-        far = [difference ^ inner for difference in least if counts[difference] >= 5]
+        far = [difference ^ inner for difference in least if counts[difference] >= gap]
         if far:
             # these lots are greater than inner: a lesser one would have been found before
             return lot_from(inner), lots_from(far)[0]
     return None
+
+
+def alone_far(family):
+    """The first two lots of the family that are alone and have a gap of 5 or more."""
+    return first_alone(family, 5)
 
 
 def near_break(family):

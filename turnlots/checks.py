@@ -46,9 +46,14 @@ def unbounded_lot(lot):
     return lot_of(lot, None)
 
 
+def is_thing(value, size):
+    """True if value is one of the things 0 to size - 1."""
+    return is_int(value) and 0 <= value < size
+
+
 def check_thing(thing, size):
     """The thing, if it is one of 0 to size - 1."""
-    if not is_int(thing) or not 0 <= thing < size:
+    if not is_thing(thing, size):
         raise BadThing(thing)
     return thing
 
@@ -58,6 +63,13 @@ def check_two(thing, other, size):
     check_thing(thing, size)
     if check_thing(other, size) == thing:
         raise BadThing(other)
+
+
+def check_loose(family, thing):
+    """The thing, if it is a loose thing of the family."""
+    if check_thing(thing, family.size) not in family.loose():
+        raise BadThing(thing)
+    return thing
 
 
 def check_any_thing(thing):

@@ -1,7 +1,7 @@
 """Depth lists, totals and shortfalls, and rows of integers added and multiplied."""
 
-from turnlots.checks import check_thing, is_int, is_list
-from turnlots.errors import BadTable, BadThing
+from turnlots.checks import check_loose, is_int, is_list
+from turnlots.errors import BadTable
 from turnlots.masks import depth_row
 from turnlots.reaches import all_pairs
 from turnlots.small import in_of, out_of, small_table
@@ -28,9 +28,7 @@ def shortfall_at(family, thing):
 
 def shortfall(family, thing):
     """The total of out thing plus the total of in thing less the total of the family."""
-    if check_thing(thing, family.size) not in family.loose():
-        raise BadThing(thing)
-    return shortfall_at(family, thing)
+    return shortfall_at(family, check_loose(family, thing))
 
 
 def short_thing(family):

@@ -1,6 +1,7 @@
 """Parity of families, and webs: links between things, and the web at a lot of a family."""
 
 from turnlots.bases import put_together
+from turnlots.breaks import needs_gated
 from turnlots.checks import check_thing, is_int, is_list, is_lot, lot_of
 from turnlots.errors import BadLink, NotEven
 from turnlots.gates import check_inside
@@ -29,6 +30,12 @@ def needs_even(family):
     if found is not None:
         one, other = found
         raise NotEven(one, other)
+
+
+def needs_gated_even(family):
+    """Raises NotGated or NotEven, in this order, if the family is not gated or not even."""
+    needs_gated(family)
+    needs_even(family)
 
 
 def checked_links(size, links):

@@ -14,19 +14,25 @@ def labels_of(family):
     return [bases_at(family, lot_from(mask)) for mask in ordered_masks(family.size)]
 
 
-def exchanges(masks, size):
-    """True if any two of the different masks, all of one number of things, exchange as bases do."""
+def exchange_break(masks, size):
+    """The first of the masks, the first other one for it, and the first thing of the one that no
+    thing of the other can replace; None if they exchange as bases do.
+
+    The masks are different and all of one number of things.
+    """
     inside = {mask: True for mask in masks}
     for one in masks:
-        for thing in lot_from(one):
-            bit = 1 << thing
-            # the things that can stand in the place of this one
-            others = [y for y in range(size) if not (one >> y) & 1]
-            instead = mask_of([y for y in others if (one ^ bit ^ (1 << y)) in inside])
-            for two in masks:
-                if not two & bit and not two & instead:
-                    return False
-    return True
+        others = [y for y in range(size) if not (one >> y) & 1]
+        # for each thing of the one: itself, and those that can stand in its place
+        instead = {
+            x: (1 << x) | mask_of([y for y in others if (one ^ (1 << x) ^ (1 << y)) in inside])
+            for x in lot_from(one)
+        }
+        for two in masks:
+            for thing in instead:
+                if not two & instead[thing]:
+                    return one, two, thing
+    return None
 
 
 def is_label(row, size):
@@ -37,7 +43,7 @@ def is_label(row, size):
     counts = thing_counts(size)
     if len(set(masks)) < len(masks) or len({counts[mask] for mask in masks}) > 1:
         return False
-    return exchanges(masks, size)
+    return exchange_break(masks, size) is None
 
 
 def fit_down(upper, lower, bit):

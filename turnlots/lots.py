@@ -13,6 +13,11 @@ def checked_lots(lots, size):
     return [lot_of(lot, size) for lot in lots]
 
 
+def others_of(lot, size):
+    """The things 0 to size - 1 that are not in the lot, an ascending tuple. It checks nothing."""
+    return tuple([thing for thing in range(size) if thing not in lot])
+
+
 def apart(one, other, size):
     """The things that are in exactly one of the two lots."""
     one, other = checked_lots([one, other], size)

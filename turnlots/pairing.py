@@ -1,10 +1,12 @@
 """Lots that pair up in a web, and what is apart in two lots taken in pairs."""
 
-from turnlots.breaks import partners
+from turnlots.breaks import common_partners
 from turnlots.checks import lot_of
 from turnlots.even import web_at
+from turnlots.families import Family
 from turnlots.gates import inner_two
 from turnlots.lots import apart
+from turnlots.masks import lot_from
 
 
 def without(things, other):
@@ -24,17 +26,42 @@ def pairings_of(web, things):
     return found
 
 
-def first_pairing(web, things):
-    """The first pairing of the things, which are in ascending order, None if there is none."""
+def first_blocks(web, singles, things):
+    """The first way to take the things, which are in ascending order, in links of the web and at
+    most one of the singles, None if there is none.
+    """
     if len(things) == 0:
         return ()
     first, *rest = things
-    for other in rest:
-        if (first, other) in web:
-            links = first_pairing(web, without(rest, other))
-            if links is not None:
-                return ((first, other),) + links
+    # a single takes the odd one out, so there is none among an even number of things
+    blocks = [(first,)] if first in singles and len(rest) & 1 == 0 else []
+    for block in blocks + [(first, other) for other in rest if (first, other) in web]:
+        others = first_blocks(web, singles, [thing for thing in rest if thing not in block])
+        if others is not None:
+            return (block,) + others
     return None
+
+
+def first_pairing(web, things):
+    """The first pairing of the things, which are in ascending order, None if there is none."""
+    return first_blocks(web, (), things)
+
+
+def pairing_row(web):
+    """The list that says of each mask if its lot has a pairing."""
+    row = [True]
+    for mask in range(1, 1 << web.size):
+        first, *rest = lot_from(mask)
+        # a mask is greater than what is left of it without a link
+        row.append(any([
+            row[mask ^ (1 << first) ^ (1 << other)] for other in rest if (first, other) in web
+        ]))
+    return row
+
+
+def paired_family(web):
+    """The Family of all lots that pair up in the web."""
+    return Family(web.size, [lot_from(mask) for mask, pairs in enumerate(pairing_row(web)) if pairs])
 
 
 def pairings(web, lot):
@@ -82,9 +109,7 @@ def both_partner(family, inner, other, thing):
     """The least other thing that is a partner of the thing for inner and other and for other and
     inner, None if there is none.
     """
-    ways = partners(family, inner, other, thing)
-    back = partners(family, other, inner, thing)
-    for y in ways:
-        if y != thing and y in back:
+    for y in common_partners(family, inner, other, thing):
+        if y != thing:
             return y
     return None

@@ -5,6 +5,7 @@ from turnlots.bonds import bonds
 from turnlots.breaks import needs_gated
 from turnlots.checks import lot_of
 from turnlots.errors import BadLot, NotParted, NotWhole
+from turnlots.lots import others_of
 from turnlots.masks import depth_row, family_masks, lot_from, mask_of, ordered_masks, thing_counts
 from turnlots.small import dropped_rows
 
@@ -65,7 +66,7 @@ def split_by(family, lot):
     row = parting_lot(family, lot)
     if not parted_by(family, row):
         raise NotParted(row)
-    rest = tuple([thing for thing in range(family.size) if thing not in row])
+    rest = others_of(row, family.size)
     return dropped_rows(family, family.lots, rest), dropped_rows(family, family.lots, row)
 
 

@@ -4,6 +4,7 @@ from turnlots.book import best_lots, is_best
 from turnlots.checks import check_thing, is_int, is_list, lot_of
 from turnlots.critical import critical
 from turnlots.errors import BadStretch, TooMany
+from turnlots.lots import others_of
 from turnlots.masks import mask_of, mask_sums
 from turnlots.wishes import Wish
 
@@ -57,11 +58,6 @@ def high_on(rows, lot):
     """The Wish that is high on the things of the lot and low on all others."""
     numbers = [row[1] if thing in lot else row[0] for thing, row in enumerate(rows)]
     return Wish(*numbers)
-
-
-def others_of(lot, size):
-    """The things below size that are not in the lot."""
-    return tuple([thing for thing in range(size) if thing not in lot])
 
 
 def world_high(stretches, *, high=()):
