@@ -187,6 +187,54 @@ STAGE_8 = '''
 [3, ((0,), (0, 1)), ((0,), (1,))]
 '''
 
+STAGE_9 = '''
+>>> from turnlots.families import Family
+>>> from turnlots.glue import Glue
+>>> from turnlots.across import glue_depths
+>>> A = Family.of(3, (), (0, 1), (0, 2), (1, 2))
+>>> [Glue(A, 2, A, 2).family.lots, glue_depths(A, 2, A, 2)]
+[((), (0, 1), (0, 1, 2, 3), (0, 2), (0, 3), (1, 2), (1, 3), (2, 3)), (8, 8)]
+
+>>> from turnlots.families import Family
+>>> from turnlots.cuts import is_glued, uneven_lot
+>>> D = Family.sized(4, 2, 2)
+>>> [is_glued(D, (0, 1)), uneven_lot(D, (0, 1))]
+[False, ((0, 2), 0, 2, 1, 3)]
+
+>>> from turnlots.families import Family
+>>> from turnlots.trees import Tree
+>>> tree = Tree(Family.of(4, (), (0, 2), (0, 3), (1, 2), (1, 3)))
+>>> [tree.link_lot(0), tree.pieces[0].told(), tree.pieces[1].told(), tree.glued()]
+[(0, 1), ('one-away', (0, 1, -1), (2,)), ('one-away', (2, 3, -1), (2,)), [(0, 1)]]
+'''
+
+STAGE_10 = '''
+>>> from turnlots.even import Web
+>>> from turnlots.nets import net_family, missed, odd_parts, reached_from
+>>> web = Web.of_rows("4: 0-1 1-2 2-3")
+>>> [net_family(web).lots, missed(web, (2, 1, 0)), odd_parts(web, (0, 1, 2)), reached_from(web, (0, 1, 2))]
+[((), (0, 1), (0, 1, 2, 3), (1, 2), (2, 3)), (0, 2), ((0,), (2,)), (3,)]
+
+>>> from turnlots.families import Family
+>>> from turnlots.desks import Desk
+>>> desk = Desk(Family.of(3, (0,), (1,), (2,)))
+>>> wanted = desk.want([5, 3, 9])
+>>> turned = desk.turn([0])
+>>> [turned.lots, desk.best(), desk.criticals(), desk.deeds(), desk.back() == wanted]
+[((), (0, 1), (0, 2)), (0, 2), (-9, 9, 3), (('want', (5, 3, 9)), ('turn', (0,))), True]
+
+>>> from turnlots.families import Family
+>>> from turnlots.listings import listing, table_text
+>>> [listing(Family.of(2, (), (0, 1))), table_text(Family.of(1, (0,)))]
+[['2 things, 2 lots, even, gated, 1 part', '-', '0,1', '0-1 mates'], ['-                    1    1 -', '0                    0    1 0']]
+
+>>> from turnlots.families import Family
+>>> from turnlots.desks import Desk
+>>> from turnlots.trials import tried
+>>> tried(Desk(Family.of(2, (0,), (1,))), [("grow", 0), ("fly",)])
+raises BadWord(1)
+'''
+
 
 def run_example(lines):
     """What the last line of an example gives: the text of its value, or of its error."""
@@ -232,3 +280,9 @@ class ExamplesTest(unittest.TestCase):
 
     def test_stage_8(self):
         self.check_examples(STAGE_8)
+
+    def test_stage_9(self):
+        self.check_examples(STAGE_9)
+
+    def test_stage_10(self):
+        self.check_examples(STAGE_10)

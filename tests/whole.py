@@ -105,3 +105,23 @@ def not_whole_ones():
 
 def is_whole_even(family):
     return is_gated(family) and is_even(family) and hangs_together(family)
+
+
+def glued_row(size, chooser):
+    """A whole even gated family of the size, glued of small pieces, its things in any order and turned."""
+    small = [*whole_of(3), *whole_of(4)[::5], Family.sized(4, 2, 2), Family.sized(5, 2, 2)]
+    family = chooser.choice(small)
+    while family.size < size:
+        more = chooser.choice([one for one in small if family.size + one.size - 2 <= size])
+        family = true_glue(family, chooser.randrange(family.size), more, chooser.randrange(more.size))
+    order = chooser.sample(range(size), size)
+    mixed = Family(size, [tuple(sorted(order[x] for x in lot)) for lot in family])
+    return mixed ^ chooser.sample(range(size), size // 2)
+
+
+@functools.lru_cache(maxsize=None)
+def tree_families(sizes=(7, 7, 7, 7, 7, 8, 8), seed=23):
+    """Larger families with trees of several pieces, always the same ones."""
+    chooser = random.Random(seed)
+    firm = Family.sized(4, 2, 2)
+    return (true_glue(firm, 3, firm, 0), *(glued_row(size, chooser) for size in sizes))

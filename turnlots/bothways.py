@@ -3,7 +3,7 @@
 from turnlots.breaks import common_partners, lowering_mask
 from turnlots.errors import NotBothWays
 from turnlots.even import web_at
-from turnlots.fours import separate_lots, whole_pairs
+from turnlots.fours import first_lone, separate_lots, whole_pairs
 from turnlots.gates import inner_two, least_of
 from turnlots.lots import apart
 from turnlots.masks import family_masks, inside_row, lot_from, lots_from, mask_of, thing_counts
@@ -69,11 +69,7 @@ def lone_three(family):
     """The first two lots of things T and Q, Q of three things, such that exactly one pair of opposite
     lots is whole; None if there are none.
     """
-    inside = inside_row(family)
-    for outer, lot in separate_lots(family.size, 3):
-        if len(whole_pairs(inside, outer, lot)) == 1:
-            return lot_from(outer), lot
-    return None
+    return first_lone(family, 3)
 
 
 def lone_four_by(family):

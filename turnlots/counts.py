@@ -7,13 +7,17 @@ from turnlots.reaches import all_pairs
 from turnlots.small import in_of, out_of, small_table
 
 
-def depth_list(family):
-    """How many lots of things have the depth 0, 1, 2 and so on, a tuple."""
-    depths = depth_row(family)
+def tally(depths):
+    """How many of the depths are 0, 1, 2 and so on up to the greatest one, a tuple."""
     counts = [0 for _ in range(max(depths) + 1)]
     for depth in depths:
         counts[depth] += 1
     return tuple(counts)
+
+
+def depth_list(family):
+    """How many lots of things have the depth 0, 1, 2 and so on, a tuple."""
+    return tally(depth_row(family))
 
 
 def total(family):

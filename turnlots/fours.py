@@ -22,16 +22,23 @@ def whole_pairs(inside, outer, lot):
     return [outer | part for part in parts if inside[outer | part] and inside[whole ^ part]]
 
 
-def lone_four(family):
-    """The first two lots of things T and Q, Q of four things, such that exactly one pair of opposite
+def first_lone(family, count):
+    """The first two lots of things T and Q, Q of count things, such that exactly one pair of opposite
     lots is whole; None if there are none.
     """
-    needs_even(family)
     inside = inside_row(family)
-    for outer, lot in separate_lots(family.size, 4):
+    for outer, lot in separate_lots(family.size, count):
         if len(whole_pairs(inside, outer, lot)) == 1:
             return lot_from(outer), lot
     return None
+
+
+def lone_four(family):
+    """The first two lots of things T and Q, Q of four things, such that exactly one pair of opposite
+    lots is whole in an even family; None if there are none.
+    """
+    needs_even(family)
+    return first_lone(family, 4)
 
 
 def far_alone(family):

@@ -76,11 +76,18 @@ class Glue:
         return check_thing(thing, self.family.size) < self.left_size
 
 
-def cut_lot(family, lot):
+def cut_lot(lot, size):
     """The lot as an ascending tuple, if both it and the lot of the other things have two or more."""
-    row = lot_of(lot, family.size)
-    if not 2 <= len(row) <= family.size - 2:
+    row = lot_of(lot, size)
+    if not 2 <= len(row) <= size - 2:
         raise BadLot(-1)
+    return row
+
+
+def whole_cut(family, lot):
+    """The lot as cut_lot gives it, if the family is a whole even gated one."""
+    row = cut_lot(lot, family.size)
+    needs_whole_even(family)
     return row
 
 
@@ -111,8 +118,7 @@ def cut_off(family, lot):
     """The two Families whose glue at their last things is the family: one with the things of the lot,
     one with the others.
     """
-    row = cut_lot(family, lot)
-    needs_whole_even(family)
+    row = whole_cut(family, lot)
     if not is_glued_at(family, mask_of(row)):
         raise NotGlued(row)
     return marked(family, row, row), marked(family, others_of(row, family.size), row)

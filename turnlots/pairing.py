@@ -6,7 +6,7 @@ from turnlots.even import web_at
 from turnlots.families import Family
 from turnlots.gates import inner_two
 from turnlots.lots import apart
-from turnlots.masks import lot_from
+from turnlots.masks import lots_from, mask_of, thing_counts
 
 
 def without(things, other):
@@ -47,23 +47,6 @@ def first_pairing(web, things):
     return first_blocks(web, (), things)
 
 
-def pairing_row(web):
-    """The list that says of each mask if its lot has a pairing."""
-    row = [True]
-    for mask in range(1, 1 << web.size):
-        first, *rest = lot_from(mask)
-        # a mask is greater than what is left of it without a link
-        row.append(any([
-            row[mask ^ (1 << first) ^ (1 << other)] for other in rest if (first, other) in web
-        ]))
-    return row
-
-
-def paired_family(web):
-    """The Family of all lots that pair up in the web."""
-    return Family(web.size, [lot_from(mask) for mask, pairs in enumerate(pairing_row(web)) if pairs])
-
-
 def pairings(web, lot):
     """The list of all pairings of the lot."""
     return pairings_of(web, lot_of(lot, web.size))
@@ -79,21 +62,31 @@ def pairs_up(web, lot):
     return first_pairing(web, lot_of(lot, web.size)) is not None
 
 
-def greatest_of(web, things):
-    """The number of links of a greatest pairing within the things."""
-    if len(things) < 2:
-        return 0
-    first, *rest = things
-    counts = [greatest_of(web, rest)]
-    for other in rest:
-        if (first, other) in web:
-            counts.append(1 + greatest_of(web, without(rest, other)))
-    return max(counts)
+def greatest_row(web):
+    """The list of the numbers of links of greatest pairings within all lots, by their masks."""
+    row = [0]
+    for thing in range(web.size):
+        bits = [1 << other for other in web.near_to(thing) if other < thing]
+        # the lots with this thing as their last one, which is unpaired or paired
+        for rest in range(1 << thing):
+            row.append(max([row[rest]] + [1 + row[rest ^ bit] for bit in bits if rest & bit]))
+    return row
 
 
 def greatest_pairing(web, lot):
     """The number of links of a greatest pairing within the lot."""
-    return greatest_of(web, lot_of(lot, web.size))
+    return greatest_row(web)[mask_of(lot_of(lot, web.size))]
+
+
+def paired_masks(web):
+    """The masks of all lots that pair up in the web."""
+    counts = thing_counts(web.size)
+    return [mask for mask, links in enumerate(greatest_row(web)) if 2 * links == counts[mask]]
+
+
+def paired_family(web):
+    """The Family of all lots that pair up in the web."""
+    return Family(web.size, lots_from(paired_masks(web)))
 
 
 def apart_pairing(family, inner, other):
