@@ -192,6 +192,39 @@ class LanguageTest(unittest.TestCase):
                         if isinstance(inner, (ast.Attribute, ast.Subscript)):
                             self.assertIsInstance(inner.ctx, ast.Load)
 
+    def test_l6_with_and_what_stands_in_exit(self):
+        for file in self.each():
+            for node in file.nodes(ast.With):
+                for item in node.items:
+                    self.assertIsInstance(item.context_expr, (ast.Call, ast.Name, ast.Attribute))
+            for node in file.functions():
+                if node.name == "__exit__":
+                    for row in node.body:
+                        self.assertIn(ast.unparse(row).split("(")[0], ("self._held.clear", "self._held.append"))
+
+    def test_l7_stars_in_calls(self):
+        for file in self.each():
+            for node in file.nodes(ast.Call):
+                stars = [arg for arg in node.args if isinstance(arg, ast.Starred)]
+                self.assertLessEqual(len(stars), 1)
+                self.assertFalse([key for key in node.keywords if key.arg is None])
+                for star in stars:
+                    self.assertIsInstance(star.value, ast.Name)
+
+    def test_l5_l26_class_values_and_names_of_attributes(self):
+        taken = set(dir(str) + dir(int) + dir(list) + dir(dict) + dir(set) + dir(bytes)) - {"count", "index", "title"}
+        for file in self.each():
+            for node in file.nodes(ast.ClassDef):
+                for row in node.body:
+                    if isinstance(row, ast.Assign):
+                        ast.literal_eval(row.value)
+                    elif isinstance(row, ast.FunctionDef) and row.name not in DUNDERS:
+                        self.assertNotIn(row.name, taken)
+            for node in file.nodes(ast.Attribute):
+                if isinstance(node.ctx, ast.Store):
+                    self.assertNotIn(node.attr, taken)
+                    self.assertIsInstance(node.value, ast.Name)
+
     def test_l18_attributes_are_assigned_somewhere_and_are_no_methods(self):
         assigned = {node.attr for file in FILES for node in file.nodes(ast.Attribute)
                     if isinstance(node.ctx, ast.Store)}

@@ -30,27 +30,28 @@ class Desk:
     def __init__(self, family):
         needs_gated(family)
         numbers = [0 for _ in range(family.size)]
-        # what the desk holds after each deed, with the word of this deed; at first without one
-        self._states = (((), family, Wish(*numbers)),)
+        # What the desk holds after each deed, with the word of this deed; at first without one. This
+        # tuple never changes; it stands in a list, so that a Trial can put an earlier one back.
+        self._held = [(((), family, Wish(*numbers)),)]
 
     @property
     def family_now(self):
         """The family that the desk holds."""
-        return self._states[-1][1]
+        return self._held[0][-1][1]
 
     @property
     def wish_now(self):
         """The Wish that the desk holds."""
-        return self._states[-1][2]
+        return self._held[0][-1][2]
 
     @property
     def many(self):
         """The number of the deeds that have not been taken back."""
-        return len(self._states) - 1
+        return len(self._held[0]) - 1
 
     def _note(self, word, family, wish):
         """Notes a deed and what it leads to, and returns the family."""
-        self._states = self._states + ((word, family, wish),)
+        self._held[0] = self._held[0] + ((word, family, wish),)
         return family
 
     def turn(self, lot):
@@ -110,12 +111,12 @@ class Desk:
         """Takes the last deed back, and returns the family that the desk holds then."""
         if self.many == 0:
             raise NotHanded() from EmptyDesk()
-        self._states = self._states[:-1]
+        self._held[0] = self._held[0][:-1]
         return self.family_now
 
     def deeds(self):
         """The tuple of the words of the deeds that have not been taken back, oldest first."""
-        return tuple([word for word, _, _ in self._states[1:]])
+        return tuple([word for word, _, _ in self._held[0][1:]])
 
     def best(self):
         """The lot in which the book ends."""

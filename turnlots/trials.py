@@ -16,16 +16,18 @@ class Trial:
     def __init__(self, desk):
         self.desk = desk
         self.mark = desk.many
-        self._before = desk._states
+        self._held = desk._held
+        self._before = desk._held[0]
 
     def __enter__(self):
         self.mark = self.desk.many
-        self._before = self.desk._states
+        self._before = self._held[0]
         return self
 
     def __exit__(self, kind, value, trace):
-        # the states never change, so this takes all deeds back, and those back that were taken back
-        self.desk._states = self._before
+        # what the desk held before never changes: so deeds that the block took back are back, too
+        self._held.clear()
+        self._held.append(self._before)
 
     def try_all(self, words):
         """The family to which the deeds of the words lead, which are all taken back."""
