@@ -50,6 +50,9 @@ def many_depths(left, p, right, q):
 def glues():
     for (left, p), (right, q) in itertools.product(sides(4), sides(7)):
         yield Glue(left, p, right, q)
+    threes = [(family, p) for family, p in sides() if family.size < 4]
+    for (left, p), (right, q) in itertools.product(threes[::2], threes[1::3]):
+        yield Glue(left, p, right, q)
     for left, right in itertools.product(larger_whole()[::11], whole_of(3)[::3]):
         yield Glue(left, left.size - 1, right, 0)
 

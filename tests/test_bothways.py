@@ -261,6 +261,8 @@ class ThreesAndFoursTest(Case):
         ten = tuple(range(10))
         self.assert_same(far_by(Family.of(10, (), ten)), ((), ten))
         self.assert_same(far_by(Family.of(10, (), (4,), ten)), ((), ten))
+        self.assert_same(far_by(Family.of(10, (3,), ten)), ((0, 1, 2, 3, 4, 5, 6, 7, 8, 9), (3,)))
+        self.assert_same(far_by(Family.of(10, (3,), (3, 5), ten)), (ten, (3, 5)))
         self.assert_same(far_by(Family.of(10, (), (4, 5), ten)), (ten, (4, 5)))
         self.assert_same(lone_three(Family.of(10, (9,), (6, 7, 8, 9))), ((9,), (6, 7, 8)))
         self.assert_same(lone_four_by(Family.of(10, (5,), (5, 6, 7, 8, 9))), ((5,), (6, 7, 8, 9), 1))

@@ -1,6 +1,8 @@
 import itertools
 
-from tests.helpers import Case, chosen_families, every_lot, plus, small_families, true_depth, true_nearest
+from tests.helpers import (
+    Case, chosen_families, every_even_family, every_lot, plus, small_families, true_depth, true_nearest,
+)
 from tests.test_book import some_wishes
 from tests.test_critical import true_critical
 from tests.test_even import even_gated, every_web, some_webs, true_is_even, true_parts
@@ -70,7 +72,8 @@ class NetTest(Case):
 
     def test_point_136_where_a_family_is_a_net(self):
         seen = set()
-        for family in [*even_gated(), *small_families(), *chosen_families((4, 5), 4)]:
+        evens = itertools.islice(every_even_family(4), 0, None, 3)
+        for family in [*even_gated(), *small_families(), *evens, *chosen_families((4, 5), 4)]:
             told = [
                 lot for lot in family
                 if sorted(plus(lot, row) for row in family) == true_net(web_at(family, lot))
@@ -96,6 +99,7 @@ class NetTest(Case):
         family = Family.of(3, (0,), (1,))
         for lot, error in ((None, BadLot(-1)), ((0, 3), BadLot(1)), ((1, 1), BadLot(1)), ([2, 0], NotInside((0, 2)))):
             self.assert_error(error, is_net_at, family, lot)
+        self.assert_error(NotInside((0, 2)), is_net_at, Family.of(3, (0,), (0, 1)), [2, 0])
 
 
 class MissedTest(Case):

@@ -3,7 +3,6 @@
 from turnlots.checks import is_int, is_list
 from turnlots.cuts import strong_lots
 from turnlots.errors import BadNumber, BadTable, NotAPiece
-from turnlots.glue import needs_whole_even
 
 
 class Piece:
@@ -117,9 +116,8 @@ def piece_of(family, names):
     if family.size < Parity.smallest:
         raise BadNumber("size")
     check_names(names, family.size)
-    needs_whole_even(family)
-    piece = sorted_piece(family, names)
+    # this needs a whole family, as the function does
     strong = strong_lots(family)
     if strong:
         raise NotAPiece(strong[0])
-    return piece
+    return sorted_piece(family, names)
