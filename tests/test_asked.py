@@ -158,7 +158,7 @@ class ToldApartTest(Case):
 
     def test_point_140_all_small_families(self):
         ones = list(small_families())
-        for one, other in itertools.product(ones, ones):
+        for one, other in itertools.combinations_with_replacement(ones, 2):
             if one.size == other.size:
                 self.assertEqual(told_apart(one, other) is None, one == other)
         for one, other in itertools.product(ones[::5], ones[::7]):

@@ -226,7 +226,7 @@ class ThreesAndFoursTest(Case):
         self.assertGreater(min(seen.values()), 20)
 
     def test_point_109_far_lots(self):
-        for family in [*FAMILIES, *FAR, *chosen_families((6, 7), 5)]:
+        for family in [*FAMILIES, *FAR, *chosen_families((6,), 5), *chosen_families((7,), 3)]:
             self.assert_same(far_by(family), true_far_by(family))
         ones = [
             ((), (0, 1, 2, 3, 4)), ((), (0, 1, 2, 3, 4, 5)), ((0,), (1, 2, 3, 4, 5)), ((), (0, 1, 2, 3, 4, 5)),
